@@ -95,3 +95,11 @@ def read_make(text):
     if numbers is None or marks is None or notes is None:
         return None
     return (numbers + (marks,), notes)
+
+
+def read_bare_make(text):
+    # Where a make stands in a longer text, it stands without notes.
+    found = read_make(text)
+    if found is None or found[1]:
+        return None
+    return found[0]

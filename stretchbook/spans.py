@@ -22,13 +22,28 @@ def is_span(thing):
     return all([is_older(edges[k], edges[k + 1]) for k in range(len(edges) - 1)])
 
 
-def lies_in_piece(make, piece):
-    high = piece[1]
-    return not is_older(make, piece[0]) and (high is None or is_older(make, high))
-
-
 def lies_in(make, span):
-    return any([lies_in_piece(make, piece) for piece in span])
+    # Only the last piece whose low is not newer can hold the make; books ask so
+    # often that it is sought by halves.
+    first = 0
+    behind = len(span)
+    while first < behind:
+        middle = (first + behind) // 2
+        if is_older(make, span[middle][0]):
+            behind = middle
+        else:
+            first = middle + 1
+    if first == 0:
+        return False
+    high = span[first - 1][1]
+    return high is None or is_older(make, high)
+
+
+def piece_span(low, high):
+    # A high that is not newer leaves no make between, and no piece.
+    if high is None or is_older(low, high):
+        return ((low, high),)
+    return ()
 
 
 def span_of(edges):

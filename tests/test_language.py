@@ -33,6 +33,14 @@ UNUSED_WORDS = re.compile(
     r"\b(type|typing|typing_extensions|enum|Enum|IntEnum|StrEnum|Flag|IntFlag|Generic|Protocol|ABC|ABCMeta"
     r"|namedtuple|NamedTuple|TypedDict|TYPE_CHECKING|abstractmethod)\b|dataclass|overload|contextmanager")
 
+UNUSED_NAMES = set("""register mro elements open input version_info with_traceback add_note format format_map
+    attrgetter breakpoint builtins compile copyright credits delattr dir eval exec exit gc getattr globals hasattr help
+    id importlib license locals methodcaller os quit setattr super type vars sys chr print""".split())
+WALKED = {"zip", "enumerate", "reversed", "range", "items", "keys", "values"}
+WALKERS = {"list", "tuple", "dict", "sorted", "sum", "any", "all", "enumerate", "zip", "min", "max", "join"}
+KEYWORDS = {"sorted": {"key", "reverse"}, "min": {"key", "default"}, "max": {"key", "default"}, "sum": {"start"},
+            "enumerate": {"start"}, "zip": {"strict"}}
+
 
 def trees():
     for path in FILES:
@@ -52,6 +60,22 @@ def bound_in(tree):
     names |= {node.name for node in ast.walk(tree) if isinstance(node, (ast.FunctionDef, ast.ClassDef))}
     names |= {node.name for node in ast.walk(tree) if isinstance(node, ast.ExceptHandler) and node.name}
     return names | {alias.name for node in ast.walk(tree) if isinstance(node, ast.ImportFrom) for alias in node.names}
+
+
+def parents(kind):
+    """Each node of a kind, with the node in which it stands straight."""
+    for name, tree in trees():
+        for above in ast.walk(tree):
+            for node in ast.iter_child_nodes(above):
+                if isinstance(node, kind):
+                    yield f"{name}:{getattr(node, 'lineno', 0)}", node, above
+
+
+def called(node):
+    """The name of what is called, of a function or a method."""
+    if not isinstance(node, ast.Call):
+        return None
+    return node.func.id if isinstance(node.func, ast.Name) else getattr(node.func, "attr", None)
 
 
 class TestFiles(unittest.TestCase):
@@ -172,6 +196,49 @@ class TestCode(unittest.TestCase):
         for place, node in nodes(ast.FormattedValue):
             self.assertIsInstance(node.value, ast.Name, place)
             self.assertIsNone(node.format_spec, place)
+
+
+class TestNarrowerRows(unittest.TestCase):
+    def test_l8_l17_names_that_are_not_used(self):
+        for name, tree in trees():
+            self.assertEqual(sorted(bound_in(tree) & UNUSED_NAMES), [], name)
+        for place, node in nodes((ast.Name, ast.Attribute)):
+            self.assertNotIn(node.id if isinstance(node, ast.Name) else node.attr, UNUSED_NAMES, place)
+
+    def test_l15_names_bound_once_and_not_hidden(self):
+        for name, tree in trees():
+            top = [node.name for node in tree.body if isinstance(node, (ast.FunctionDef, ast.ClassDef))]
+            top += [alias.name for node in tree.body if isinstance(node, ast.ImportFrom) for alias in node.names]
+            top += [node.targets[0].id for node in tree.body if isinstance(node, ast.Assign)]
+            self.assertEqual(len(top), len(set(top)), name)
+            for node in ast.walk(tree):
+                if isinstance(node, ast.arg):
+                    self.assertNotIn(node.arg, top, f"{name}:{node.lineno}")
+                elif isinstance(node, ast.Name) and isinstance(node.ctx, ast.Store) and node.col_offset:
+                    self.assertNotIn(node.id, top, f"{name}:{node.lineno}")
+
+    def test_l19_handlers(self):
+        own = {node.name for _, node in nodes(ast.ClassDef)}
+        for place, node in nodes(ast.ExceptHandler):
+            self.assertIsInstance(node.type, ast.Name, place)
+            self.assertIn(node.type.id, own | {"KeyError", "ZeroDivisionError", "StopIteration"}, place)
+
+    def test_l22_keywords(self):
+        for place, node in nodes(ast.Call):
+            for keyword in node.keywords:
+                self.assertIn(keyword.arg, KEYWORDS.get(called(node), ()), place)
+
+    def test_l23_walked_at_once(self):
+        for place, node, above in parents(ast.Call):
+            if called(node) in WALKED:
+                walked = isinstance(above, (ast.For, ast.comprehension)) and above.iter is node
+                self.assertTrue(walked or (called(above) in WALKERS and above.args[0] is node), place)
+
+    def test_l24_sets(self):
+        for place, node, above in parents(ast.Call):
+            if called(node) in ("set", "frozenset"):
+                beside = isinstance(above, (ast.Compare, ast.BinOp))
+                self.assertTrue(beside or called(above) in ("len", "sorted"), place)
 
 
 if __name__ == "__main__":

@@ -4,13 +4,9 @@ import itertools
 import random
 import unittest
 
-from stretchbook.makes import OLDEST, is_make, is_older, newest_first, next_make
+from stretchbook.makes import OLDEST, is_make, newest_first, next_make
 from stretchbook.spans import ALL, is_span, joined, less, lies_in, met, parting
-
-
-def make(great, middle=0, small=0, marks=()):
-    return (great, middle, small, marks)
-
+from tests.plain import edges_in, forty, lies, make, spans_over, stands_as_a_span
 
 # Makes of every kind, the oldest first, with the next one of each among them.
 SOME = [OLDEST, make(0), make(0, 0, 1, ("a",)), make(0, 3), make(1, 0, 0, (0,)), make(1, 0, 0, ("a",)),
@@ -18,50 +14,11 @@ SOME = [OLDEST, make(0), make(0, 0, 1, ("a",)), make(0, 3), make(1, 0, 0, (0,)),
 ROW = list(reversed(newest_first(list(dict.fromkeys(SOME + [next_make(one) for one in SOME])))))
 
 
-def forty(first, step):
-    return tuple([(make(first + step * k), make(first + step * k + 1)) for k in range(40)])
-
-
-def edges_in(spans):
-    return [edge for span in spans for piece in span for edge in piece if edge is not None]
-
-
 def asked_about(*spans):
     """Each edge, the next make of each, and the oldest and a very new one: what
     lies between two edges lies as the older edge does, so these tell all."""
     edges = edges_in(spans)
     return list(dict.fromkeys(edges + [next_make(edge) for edge in edges] + [OLDEST, make(10 ** 12)]))
-
-
-def lies(one, span):
-    """Point 9, told in another way than the program does: by places in a sorted list."""
-    edges = edges_in([span])
-    return sum(1 for edge in edges if not is_older(one, edge)) % 2 == 1
-
-
-def spans_over(makes):
-    """Every span whose edges are among these makes, given the oldest first."""
-    for count in range(len(makes) + 1):
-        for edges in itertools.combinations(makes, count):
-            ends = edges + (None,)
-            yield tuple([(edges[k], ends[k + 1]) for k in range(0, count, 2)])
-
-
-def stands_as_a_span(thing):
-    """The form of point 9, kinds and all."""
-    if type(thing) is not tuple:
-        return False
-    for k, piece in enumerate(thing):
-        if type(piece) is not tuple or len(piece) != 2 or not is_make(piece[0]):
-            return False
-        if piece[1] is None:
-            if k != len(thing) - 1:
-                return False
-        elif not is_make(piece[1]) or not is_older(piece[0], piece[1]):
-            return False
-        if k and not is_older(thing[k - 1][1], piece[0]):
-            return False
-    return True
 
 
 ONE, TWO, THREE, FOUR, FIVE, SIX = [make(k) for k in range(1, 7)]
@@ -151,6 +108,11 @@ class TestLiesIn(unittest.TestCase):
                             (THREE, True), (make(3, 9), True), (FOUR, False), (FIVE, False),
                             (make(6, 0, 0, (0,)), False), (SIX, True), (make(10 ** 12), True)):
             self.assertIs(lies_in(one, span), answer, one)
+
+    def test_forty_pieces(self):
+        for span in (forty(1, 2), forty(2, 3), forty(1, 2)[:-1] + ((make(79), None),), forty(1, 2)[:2]):
+            for one in asked_about(span) + [make(k, 5) for k in range(130)]:
+                self.assertIs(lies_in(one, span), lies(one, span), (one, span))
 
     def test_every_span_of_few_edges(self):
         for span in spans_over(ROW[3:9]):
