@@ -115,3 +115,11 @@ def read_span(text):
         raise NoSpan(len(words))
     alternatives.append(folded(terms, met))
     return folded(alternatives, joined)
+
+
+def span_or_none(text):
+    # For longer texts, in which a span that is none is refused otherwise.
+    try:
+        return read_span(text)
+    except NoSpan:
+        return None

@@ -1,8 +1,8 @@
 """Shelves: their form, how they are written, and what stands on them (points 16 to 18)."""
 
-from stretchbook.errors import NoShelf, NoSpan
+from stretchbook.errors import NoShelf
 from stretchbook.makes import newest_first, read_bare_make, shown_make
-from stretchbook.reading import read_span
+from stretchbook.reading import span_or_none
 from stretchbook.words import is_name
 from stretchbook.writing import written
 
@@ -40,15 +40,15 @@ def read_part(line):
     return None if make is None else (words[1], make, ())
 
 
+def read_named_span(text):
+    halves = text.partition(" ")
+    span = span_or_none(halves[2]) if is_name(halves[0]) else None
+    return None if span is None else (halves[0], span)
+
+
 def read_need(line):
-    ahead = line.partition(" ")
-    behind = ahead[2].partition(" ")
-    if ahead[0] != "need" or not is_name(behind[0]):
-        return None
-    try:
-        return (behind[0], read_span(behind[2]))
-    except NoSpan:
-        return None
+    halves = line.partition(" ")
+    return read_named_span(halves[2]) if halves[0] == "need" else None
 
 
 def with_part(entries, part):

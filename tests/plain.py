@@ -1,8 +1,9 @@
-"""What the tests share: makes at hand, spans told plainly, and their words read make by make."""
+"""What the tests share: makes at hand, and plain words for spans, their texts, books and papers."""
 
 import itertools
 
 from stretchbook.makes import OLDEST, is_make, is_older, newest_first, next_make, read_make
+from stretchbook.reading import read_span
 
 NEWEST_NUMBER = 10 ** 15 - 1
 LAST_MARKS = ("zzzzzzzz",) * 12
@@ -159,3 +160,155 @@ def in_term(one, word):
 def in_text(one, text):
     """Whether a make lies in all terms of one of the alternatives."""
     return any(all(in_term(one, word) for word in part.split(" ")) for part in text.split(" | "))
+
+
+def wants(*texts):
+    """Needs, each of a text of its name and span."""
+    return tuple([(text.partition(" ")[0], read_span(text.partition(" ")[2])) for text in texts])
+
+
+def book(text):
+    """A book, of a text of names and makes."""
+    words = text.split()
+    return tuple([(words[k], m(words[k + 1])) for k in range(0, len(words), 2)])
+
+
+def need(by, name, text):
+    return (by, name, read_span(text))
+
+
+def makes_on(shelf, name):
+    """The makes of a name, the newest first."""
+    return list(reversed(oldest_first([entry[1] for entry in shelf if entry[0] == name])))
+
+
+def at_work(shelf, wanted, taken):
+    """Point 19: the needs at work of the wants, then of each entry that is taken."""
+    needs = [("", name, span) for name, span in wanted]
+    for by, one in taken:
+        for name, other, own in shelf:
+            if (name, other) == (by, one):
+                needs += [(by, needed, span) for needed, span in own]
+    return needs
+
+
+def broken_plainly(shelf, wanted, taken):
+    """Point 19, told in another way than the program does: what the book lacks, by name."""
+    makes = dict(taken)
+    return [one for one in at_work(shelf, wanted, sorted(taken))
+            if one[1] not in makes or not lies(makes[one[1]], one[2])]
+
+
+def reached_plainly(shelf, wanted, taken):
+    """Point 20: reached in no step, then in one step more each time."""
+    names = {name for name, _ in wanted}
+    for _ in taken:
+        names |= {needed for name, one, needs in shelf if (name, one) in taken and name in names for needed, _ in needs}
+    return names
+
+
+def tidy_plainly(shelf, wanted, taken):
+    return all(name in reached_plainly(shelf, wanted, taken) for name, _ in taken)
+
+
+def swapped(taken, name, one):
+    return tuple(sorted(((set(taken) - {(name, dict(taken)[name])}) | {(name, one)}), key=lambda pair: pair[0]))
+
+
+def newest_plainly(shelf, wanted, taken, name):
+    """Point 21: the newest make that leaves the book sound."""
+    return [one for one in makes_on(shelf, name) if not broken_plainly(shelf, wanted, swapped(taken, name, one))][0]
+
+
+def lifted_plainly(shelf, wanted, taken):
+    """Point 22, from the first name on again behind each lift."""
+    for name, one in taken:
+        found = newest_plainly(shelf, wanted, taken, name)
+        if is_older(one, found):
+            return lifted_plainly(shelf, wanted, swapped(taken, name, found))
+    return taken
+
+
+def first_book(shelf, wanted, choices=()):
+    """Point 23, by its words: the first book behind these choices, or None."""
+    makes = dict(choices)
+    needs = at_work(shelf, wanted, choices)
+    if any(name in makes and not lies(makes[name], span) for _, name, span in needs):
+        return None
+    left = sorted(name for _, name, _ in needs if name not in makes)
+    if not left:
+        return tuple(sorted(choices))
+    for one in makes_on(shelf, left[0]):
+        found = first_book(shelf, wanted, choices + ((left[0], one),))
+        if found is not None:
+            return found
+    return None
+
+
+def every_book(shelf):
+    names = sorted({entry[0] for entry in shelf})
+    for picked in itertools.product(*[[None] + makes_on(shelf, name) for name in names]):
+        yield tuple([(name, one) for name, one in zip(names, picked) if one is not None])
+
+
+def shows(shelf, wanted, choices, paper):
+    """Point 24, by its words: whether this is a paper for these choices, kinds and all."""
+    if type(paper) is not tuple or len(paper) != 4:
+        return False
+    needs = at_work(shelf, wanted, choices)
+    chosen = [name for name, _ in choices]
+    if paper[0] == "broken":
+        return paper[1:] in needs and any(name == paper[2] and not lies(made, paper[3]) for name, made in choices)
+    _, name, by, rows = paper
+    if paper[0] != "open" or name in chosen or (by, name) not in [one[:2] for one in needs]:
+        return False
+    if type(rows) is not tuple or any(type(row) is not tuple or len(row) != 2 for row in rows):
+        return False
+    return [row[0] for row in rows] == makes_on(shelf, name) and all(
+        shows(shelf, wanted, choices + ((name, made),), behind) for made, behind in rows)
+
+
+def random_shelf(chance, names, spans, many):
+    """Lines of a shelf: some makes of each name, of each other name a need with this chance, of gone a rare one."""
+    lines = []
+    for name in names:
+        for great in chance.sample(range(1, 5), chance.randint(1, 4)):
+            lines.append(f"part {name} {great}.0.0")
+            for other in names:
+                if other != name and chance.random() < many:
+                    lines.append(f"need {other} {chance.choice(spans)}")
+            if chance.random() < 0.04:
+                lines.append("need gone *")
+    return lines
+
+
+class PlainLock:
+    """Point 27, by its words; a refusal is told by its name."""
+
+    def __init__(self, shelf):
+        self.shelf, self.wanted, self.taken = shelf, (), ()
+
+    def behind(self, wanted):
+        if broken_plainly(self.shelf, wanted, self.taken):
+            taken = first_book(self.shelf, wanted)
+        else:
+            names = reached_plainly(self.shelf, wanted, self.taken)
+            taken = tuple([pair for pair in self.taken if pair[0] in names])
+        if taken is None:
+            return "Stuck"
+        self.wanted, self.taken = wanted, taken
+        return None
+
+    def want(self, name, span):
+        wanted = dict(self.wanted)
+        wanted[name] = span
+        return self.behind(tuple(wanted.items()))
+
+    def drop(self, name):
+        wanted = dict(self.wanted)
+        if wanted.pop(name, None) is None:
+            return "NoName"
+        return self.behind(tuple(wanted.items()))
+
+    def lift(self):
+        self.taken = lifted_plainly(self.shelf, self.wanted, self.taken)

@@ -9,58 +9,8 @@ from stretchbook.errors import NoLine, NoName, NoShelf, NoSpan, SpanError, Stuck
 from stretchbook.makes import is_older
 from stretchbook.reading import read_span
 from stretchbook.shelves import read_shelf
-from tests.plain import forty, lies, m, make, oldest_first
-
-
-def wants(*texts):
-    """Needs, each of a text of its name and span."""
-    return tuple([(text.partition(" ")[0], read_span(text.partition(" ")[2])) for text in texts])
-
-
-def book(text):
-    """A book, of a text of names and makes."""
-    words = text.split()
-    return tuple([(words[k], m(words[k + 1])) for k in range(0, len(words), 2)])
-
-
-def need(by, name, text):
-    return (by, name, read_span(text))
-
-
-def broken_plainly(shelf, wanted, taken):
-    """Point 19, told in another way than the program does: what the book lacks, by name."""
-    makes = dict(taken)
-    at_work = [("", wanted)]
-    for name in sorted(makes):
-        at_work += [(name, needs) for other, one, needs in shelf if (other, one) == (name, makes[name])]
-    found = []
-    for by, needs in at_work:
-        for name, span in needs:
-            if name not in makes or not lies(makes[name], span):
-                found.append((by, name, span))
-    return found
-
-
-def tidy_plainly(shelf, wanted, taken):
-    """Point 20: reached in no step, then in one step more each time."""
-    names = {name for name, _ in wanted}
-    for _ in taken:
-        names |= {needed for name, one, needs in shelf if (name, one) in taken and name in names for needed, _ in needs}
-    return all(name in names for name, _ in taken)
-
-
-def swapped(taken, name, one):
-    return tuple(sorted(((set(taken) - {(name, dict(taken)[name])}) | {(name, one)}), key=lambda pair: pair[0]))
-
-
-def lifted_plainly(shelf, wanted, taken):
-    """Point 22, from the first name on again behind each lift."""
-    for name, one in taken:
-        for other in reversed(oldest_first([entry[1] for entry in shelf if entry[0] == name])):
-            if is_older(one, other) and not broken_plainly(shelf, wanted, swapped(taken, name, other)):
-                return lifted_plainly(shelf, wanted, swapped(taken, name, other))
-    return taken
-
+from tests.plain import (book, broken_plainly, forty, lifted_plainly, m, make, need, oldest_first, swapped,
+                         tidy_plainly, wants)
 
 SHELF = read_shelf([
     "part app 1.0.0", "need lib ^1.0.0", "need tool *",

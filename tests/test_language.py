@@ -217,6 +217,16 @@ class TestNarrowerRows(unittest.TestCase):
                 elif isinstance(node, ast.Name) and isinstance(node.ctx, ast.Store) and node.col_offset:
                     self.assertNotIn(node.id, top, f"{name}:{node.lineno}")
 
+    def test_l18_l26_methods_and_values(self):
+        own = {part.name for _, node in nodes(ast.ClassDef) for part in node.body if isinstance(part, ast.FunctionDef)}
+        given = {node.attr for _, node in nodes(ast.Attribute) if isinstance(node.ctx, ast.Store)}
+        self.assertEqual(sorted(own & given), [])
+        python = {word for kind in (str, int, list, dict, set, bytes, tuple) for word in dir(kind)}
+        self.assertEqual(sorted((own - SPECIAL | given) & (python | {"args"})), [])
+        for place, node in nodes(ast.ClassDef):
+            names = [part.name for part in node.body if isinstance(part, ast.FunctionDef)]
+            self.assertEqual(len(names), len(set(names)), place)
+
     def test_l19_handlers(self):
         own = {node.name for _, node in nodes(ast.ClassDef)}
         for place, node in nodes(ast.ExceptHandler):
